@@ -1,0 +1,1 @@
+"""Steplinks: what links vouch for."""

@@ -1,0 +1,71 @@
+"""Point 17: what each file defines, and that calls keep what they were given."""
+
+import inspect
+import unittest
+
+from steplinks import errors, layings, sheets
+from steplinks.errors import LinkError
+from helping import deep
+
+LISTED = {
+    errors: {"LinkError": None, "NoPlace": None, "NoLaying": None, "NoImage": None, "NoKinds": None, "NoNumber": None,
+             "NoRecord": None, "NotRing": None, "NotWide": None, "NoEdit": None, "NoRow": None, "NoValue": None,
+             "Full": None, "NoMany": None, "NoOrder": None, "Fallen": None, "Asleep": None, "NoKind": None,
+             "NoEntry": None, "NothingDone": None, "TooMany": ["most"], "BadScheme": ["part"],
+             "NotSure": ["distance"], "BadText": ["line"]},
+    sheets: {"Scheme": ["moduli", "steps", "numbers"], "places": ["scheme"], "plus": ["scheme", "one", "other"],
+             "less": ["scheme", "one", "other"], "rests": ["scheme", "place"], "closed": ["scheme", "kinds"]},
+    layings: {"image_of": ["scheme", "laying"], "plain": ["scheme", "laying"], "is_image": ["scheme", "thing"],
+              "laying_of": ["scheme", "image"], "gainsaid": ["scheme", "laying", "image"],
+              "unlike": ["scheme", "one", "other"]},
+}
+
+
+class Interface(unittest.TestCase):
+    def test_each_name_is_defined_in_its_file_with_its_arguments(self):
+        for module, names in LISTED.items():
+            for name, arguments in names.items():
+                found = getattr(module, name)
+                self.assertEqual(found.__module__, module.__name__, name)
+                if arguments is not None:
+                    self.assertEqual(list(inspect.signature(found).parameters), arguments, name)
+
+    def test_scheme_defines_its_own_equality(self):
+        self.assertIn("__eq__", vars(sheets.Scheme))
+
+
+class Calls(unittest.TestCase):
+    """Points 2 to 4, over all functions."""
+
+    def calls(self, scheme, laying, image):
+        return [sheets.places(scheme), sheets.rests(scheme, 3), sheets.plus(scheme, 3, 4), sheets.less(scheme, 3, 4),
+                sheets.closed(scheme, (0,)), layings.image_of(scheme, laying), layings.plain(scheme, laying),
+                layings.is_image(scheme, image), layings.laying_of(scheme, image),
+                layings.gainsaid(scheme, laying, image), layings.unlike(scheme, laying, laying[::-1])]
+
+    def test_equal_calls_give_equal_results_and_change_no_scheme(self):
+        for numbers in (0, 1):
+            scheme = sheets.Scheme((2, 3), (1, 3), numbers)
+            laying = (5, 4, 3, 2, 1, 0)
+            image = layings.image_of(scheme, (0, 2, 1, 3, 5, 4))
+            first = self.calls(scheme, laying, image)
+            self.assertEqual(self.calls(scheme, laying, image), first)
+            self.assertEqual(self.calls(sheets.Scheme((2, 3), (1, 3), numbers), laying, image), first)
+            self.assertEqual((scheme.moduli, scheme.steps, scheme.numbers), ((2, 3), (1, 3), numbers))
+
+    def test_refused_calls_change_no_scheme(self):
+        scheme = sheets.Scheme((2, 3), (1, 3), 1)
+        wrong = deep(lambda inner: [inner])
+        for call in [lambda: sheets.rests(scheme, wrong), lambda: sheets.plus(scheme, wrong, wrong),
+                     lambda: sheets.less(scheme, 0, wrong), lambda: sheets.closed(scheme, wrong),
+                     lambda: layings.image_of(scheme, wrong), lambda: layings.plain(scheme, wrong),
+                     lambda: layings.laying_of(scheme, wrong), lambda: layings.gainsaid(scheme, wrong, wrong),
+                     lambda: layings.unlike(scheme, wrong, wrong)]:
+            with self.assertRaises(LinkError):
+                call()
+        self.assertEqual((scheme.moduli, scheme.steps, scheme.numbers), ((2, 3), (1, 3), 1))
+        self.assertEqual(wrong, deep(lambda inner: [inner]))
+
+
+if __name__ == "__main__":
+    unittest.main()
