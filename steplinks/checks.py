@@ -1,5 +1,7 @@
 """What several modules ask of a value that may be anything."""
 
+from steplinks.errors import NoNumber
+
 
 def between(thing, low, high):
     """Whether a thing is an integer, and no flag, from low to high."""
@@ -13,3 +15,9 @@ def all_between(thing, low, high):
     if not isinstance(thing, tuple):
         return False
     return all([between(item, low, high) for item in thing])
+
+
+def check_number(thing, high):
+    """Raise NoNumber unless a thing is an integer from 0 to a bound."""
+    if not between(thing, 0, high):
+        raise NoNumber()

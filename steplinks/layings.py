@@ -69,6 +69,16 @@ def plain(scheme, laying):
     return tuple([laying[place] for place in shifted(scheme, laying.index(0))])
 
 
+def is_plain(scheme, thing):
+    """Whether a thing is a plain laying."""
+    return is_laying(scheme, thing) and plain(scheme, thing) == thing
+
+
+def nones(image):
+    """How many entries of an image can't be read."""
+    return sum([row.count(None) for row in image])
+
+
 def by_numbers(scheme, image):
     """What stands at each place by the first number of each record, None where nothing does."""
     kind = len(scheme.steps)

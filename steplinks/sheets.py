@@ -132,7 +132,10 @@ def less(scheme, one, other):
 
 def shifted(scheme, step):
     """The list of the places that stand a step on from each place."""
-    return [added(scheme.moduli, place, step) for place in range(places(scheme))]
+    found = [0]
+    for modulus, rest in zip(scheme.moduli, rests_of(scheme.moduli, step)):
+        found = [place * modulus + (rest + own) % modulus for place in found for own in range(modulus)]
+    return found
 
 
 def are_kinds(scheme, thing):

@@ -59,3 +59,69 @@ def layings_by_image(moduli, steps, numbers):
     for laying in permutations(range(len(rests_by_hand(moduli)))):
         found.setdefault(image_by_hand(moduli, steps, numbers, laying), []).append(laying)
     return found
+
+
+def table_by_hand(moduli):
+    """A dict that leads from pairs of places to their sums."""
+    table = rests_by_hand(moduli)
+    at = {rests: place for place, rests in enumerate(table)}
+    return {(one, other): at[tuple((a + b) % m for a, b, m in zip(table[one], table[other], moduli))]
+            for one in range(len(table)) for other in range(len(table))}
+
+
+def images_by_hand(moduli, steps, numbers, layings):
+    """The images of many layings, by one table of all sums."""
+    sums = table_by_hand(moduli)
+    found = []
+    for laying in layings:
+        rows = [None] * len(laying)
+        for place, record in enumerate(laying):
+            rows[record] = tuple([laying[sums[place, step]] for step in steps] + [place] * numbers)
+        found.append(tuple(rows))
+    return found
+
+
+def plain_by_hand(moduli, steps, numbers):
+    """The list of the pairs (plain laying, its image), ascending: of all layings, the first with each image."""
+    layings = list(permutations(range(len(rests_by_hand(moduli)))))
+    found = {}
+    for laying, image in zip(layings, images_by_hand(moduli, steps, numbers, layings)):
+        found.setdefault(image, laying)
+    return sorted((laying, image) for image, laying in found.items())
+
+
+def entries_of(image):
+    """All pairs (record, kind) of an image, ascending."""
+    return [(record, kind) for record, row in enumerate(image) for kind in range(len(row))]
+
+
+def apart_by_hand(one, other):
+    """The entries, None in neither image, in which two images differ."""
+    return [(record, kind) for record, kind in entries_of(one)
+            if None not in (one[record][kind], other[record][kind]) and one[record][kind] != other[record][kind]]
+
+
+def written_in(image, entries):
+    """An image in which some entries, told by a dict, are others."""
+    return tuple(tuple(entries.get((record, kind), entry) for kind, entry in enumerate(row))
+                 for record, row in enumerate(image))
+
+
+def random_scheme(rng, moduli, kinds, numbers):
+    """A scheme with so many kinds of links, often equal and opposite ones; with numbers if the steps need them."""
+    while True:
+        many = len(rests_by_hand(moduli))
+        few = [rng.randrange(1, many) for _ in range(rng.randint(1, 3))]
+        few += [rests_by_hand(moduli).index(tuple(-a % m for a, m in zip(rests_by_hand(moduli)[step], moduli)))
+                for step in few]
+        steps = tuple(rng.choice(few) for _ in range(kinds))
+        try:
+            return Scheme(moduli, steps, numbers)
+        except BadScheme:
+            continue
+
+
+def random_laying(rng, many):
+    laying = list(range(many))
+    rng.shuffle(laying)
+    return tuple(laying)

@@ -62,6 +62,7 @@ class Form(unittest.TestCase):
                     self.assertRegex(node.module, r"^steplinks\.[a-z0-9_]+$", path)
                     source = ast.parse(text_of(os.path.join(FOLDER, node.module.split(".")[1] + ".py")))
                     defined = [part.name for part in source.body if hasattr(part, "name")]
+                    defined += [part.targets[0].id for part in source.body if isinstance(part, ast.Assign)]
                     for name in node.names:
                         self.assertIsNone(name.asname, path)
                         self.assertIn(name.name, defined, path)

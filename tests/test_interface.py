@@ -3,7 +3,7 @@
 import inspect
 import unittest
 
-from steplinks import errors, layings, sheets
+from steplinks import distances, errors, faults, layings, mending, sheets
 from steplinks.errors import LinkError
 from helping import deep
 
@@ -18,6 +18,11 @@ LISTED = {
     layings: {"image_of": ["scheme", "laying"], "plain": ["scheme", "laying"], "is_image": ["scheme", "thing"],
               "laying_of": ["scheme", "image"], "gainsaid": ["scheme", "laying", "image"],
               "unlike": ["scheme", "one", "other"]},
+    distances: {"least_distance": ["scheme"], "two_layings": ["scheme"],
+                "halfway": ["scheme", "false", "unreadable"],
+                "is_halfway": ["scheme", "false", "unreadable", "thing"]},
+    mending: {"nearest": ["scheme", "image", "most"], "mended": ["scheme", "image", "false"]},
+    faults: {"fault": ["scheme", "image"], "is_fault": ["scheme", "image", "thing"]},
 }
 
 
@@ -41,7 +46,11 @@ class Calls(unittest.TestCase):
         return [sheets.places(scheme), sheets.rests(scheme, 3), sheets.plus(scheme, 3, 4), sheets.less(scheme, 3, 4),
                 sheets.closed(scheme, (0,)), layings.image_of(scheme, laying), layings.plain(scheme, laying),
                 layings.is_image(scheme, image), layings.laying_of(scheme, image),
-                layings.gainsaid(scheme, laying, image), layings.unlike(scheme, laying, laying[::-1])]
+                layings.gainsaid(scheme, laying, image), layings.unlike(scheme, laying, laying[::-1]),
+                distances.least_distance(scheme), distances.two_layings(scheme), distances.halfway(scheme, 4, 1),
+                distances.is_halfway(scheme, 4, 1, distances.halfway(scheme, 4, 1)),
+                mending.nearest(scheme, image, 3), mending.mended(scheme, image, 1), faults.fault(scheme, image),
+                faults.is_fault(scheme, image, (0, ((0, 0, True),)))]
 
     def test_equal_calls_give_equal_results_and_change_no_scheme(self):
         for numbers in (0, 1):
@@ -60,7 +69,10 @@ class Calls(unittest.TestCase):
                      lambda: sheets.less(scheme, 0, wrong), lambda: sheets.closed(scheme, wrong),
                      lambda: layings.image_of(scheme, wrong), lambda: layings.plain(scheme, wrong),
                      lambda: layings.laying_of(scheme, wrong), lambda: layings.gainsaid(scheme, wrong, wrong),
-                     lambda: layings.unlike(scheme, wrong, wrong)]:
+                     lambda: layings.unlike(scheme, wrong, wrong), lambda: distances.halfway(scheme, wrong, wrong),
+                     lambda: distances.is_halfway(scheme, 0, wrong, wrong), lambda: mending.nearest(scheme, wrong, 0),
+                     lambda: mending.mended(scheme, wrong, wrong), lambda: faults.fault(scheme, wrong),
+                     lambda: faults.is_fault(scheme, wrong, wrong)]:
             with self.assertRaises(LinkError):
                 call()
         self.assertEqual((scheme.moduli, scheme.steps, scheme.numbers), ((2, 3), (1, 3), 1))
