@@ -8,10 +8,10 @@ MOST_WRONG = 40
 
 
 def widened(onward, inside):
-    """The places that can be come to from those of a lot that closes, by one more step."""
+    """The places that can be come to from those of a closed lot by one step more, led on by a list of places."""
     found = list(inside)
     beside = [onward[place] for place in inside]
-    # What closes is moved as a whole: when 0 is come back to it, so is all.
+    # A closed lot is moved as a whole: when 0 comes back into it, so does all of it.
     while beside[0] not in inside:
         found.extend(beside)
         beside = [onward[place] for place in beside]
@@ -37,26 +37,26 @@ def like_kinds(scheme, step):
 
 
 def exchange(scheme):
-    """The distance that an exchange of two records makes at least, and the pair of their places."""
+    """The number of entries that an exchange of two records changes, of two that leave the most, and their places."""
     likes = [like_kinds(scheme, step) for step in scheme.steps]
     most = max(likes)
     return (4 * len(likes) - most + 2 * scheme.numbers, (0, scheme.steps[likes.index(most)]))
 
 
-def turned(scheme, inside):
-    """The distance that it makes to move what stands on the places of a lot that closes, all by one of them."""
+def moved_on(scheme, inside):
+    """The number of entries that change if what stands on the places of a closed lot moves on by one of these."""
     out = [step for step in scheme.steps if step not in inside]
     return (len(inside) * (2 * len(out) + scheme.numbers), inside)
 
 
 def least_change(scheme):
-    """The least distance, and the places whose records make it, moved all by the second of these.
+    """The least distance, and the places whose records all move on by the second of these to make it.
 
-    The fact of point 8 says that no other change makes less than an exchange or a turn.
+    The fact of point 8 says that nothing changes fewer entries than such an exchange or move.
     """
-    turns = [turned(scheme, inside) for inside in closed_lots(scheme) if len(inside) > 1]
-    # Nothing is changed by a turn of the whole sheet that no number tells of.
-    return min([exchange(scheme)] + [pair for pair in turns if pair[0] > 0])
+    moves = [moved_on(scheme, inside) for inside in closed_lots(scheme) if len(inside) > 1]
+    # All records together may move without any entry telling of it.
+    return min([exchange(scheme)] + [pair for pair in moves if pair[0] > 0])
 
 
 def least_distance(scheme):
@@ -71,7 +71,7 @@ def two_layings(scheme):
     onward = shifted(scheme, moved[1])
     other = list(one)
     for place in moved:
-        # An exchange brings the second record to 0, also where its step does not lead back there.
+        # In an exchange the second record goes to 0, wherever the step leads on from its place.
         target = onward[place] if onward[place] in moved else 0
         other[target] = place
     return (one, plain(scheme, tuple(other)))
