@@ -37,7 +37,7 @@ def like_kinds(scheme, step):
 
 
 def exchange(scheme):
-    """The number of entries that an exchange of two records changes, of two that leave the most, and their places."""
+    """The least number of entries that an exchange of two records changes, and the places of two such."""
     likes = [like_kinds(scheme, step) for step in scheme.steps]
     most = max(likes)
     return (4 * len(likes) - most + 2 * scheme.numbers, (0, scheme.steps[likes.index(most)]))
