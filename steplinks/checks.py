@@ -17,7 +17,12 @@ def all_between(thing, low, high):
     return all([between(item, low, high) for item in thing])
 
 
+def check_between(thing, low, high):
+    """Raise NoNumber unless a thing is an integer from low to high."""
+    if not between(thing, low, high):
+        raise NoNumber()
+
+
 def check_number(thing, high):
     """Raise NoNumber unless a thing is an integer from 0 to a bound."""
-    if not between(thing, 0, high):
-        raise NoNumber()
+    check_between(thing, 0, high)

@@ -1,4 +1,4 @@
-"""The nearest layings of a small image, by trying them all."""
+"""The nearest layings of a small image, and all near ones, by trying them all."""
 
 from steplinks.sheets import opposite, places, shifted
 
@@ -34,26 +34,49 @@ def against(scheme, image, looks, begun, record):
     return many
 
 
+def bare(scheme):
+    """What every plain laying begins with, as a list of one pair of what it gainsays so far and the laying so far."""
+    # Without numbers a laying is plain if record 0 stands at place 0.
+    return [(0, ())] if scheme.numbers > 0 else [(0, (0,))]
+
+
+def led_on_by_one(scheme, image, looks, spent, begun):
+    """The pairs likewise that one record more makes of a laying that is begun, and of what it gainsays."""
+    return [(spent + against(scheme, image, looks, begun, record), begun + (record,))
+            for record in range(places(scheme)) if record not in begun]
+
+
 def try_all(scheme, image, most, enough):
     """The least number of entries that a plain laying gainsays, and so many of those that do; None if above most."""
     many = places(scheme)
     looks = looks_back(scheme)
     least = most
     found = []
-    # Without numbers a laying is plain if record 0 stands at place 0.
-    begun = [(0, ())] if scheme.numbers > 0 else [(0, (0,))]
+    begun = bare(scheme)
     while begun:
         spent, laying = begun.pop()
         if spent > least:
             continue
         if len(laying) < many:
-            for record in range(many):
-                if record not in laying:
-                    more = spent + against(scheme, image, looks, laying, record)
-                    begun.append((more, laying + (record,)))
+            begun.extend(led_on_by_one(scheme, image, looks, spent, laying))
         elif spent < least:
             least = spent
             found = [laying]
         elif len(found) < enough:
             found.append(laying)
     return (least, found) if found else None
+
+
+def all_within(scheme, image, most):
+    """The ascending list of all plain layings that gainsay at most so many entries."""
+    many = places(scheme)
+    looks = looks_back(scheme)
+    found = []
+    begun = bare(scheme)
+    while begun:
+        spent, laying = begun.pop()
+        if spent <= most and len(laying) < many:
+            begun.extend(led_on_by_one(scheme, image, looks, spent, laying))
+        elif spent <= most:
+            found.append(laying)
+    return sorted(found)

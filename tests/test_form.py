@@ -99,6 +99,9 @@ class Form(unittest.TestCase):
         for path, _, tree in self.each():
             own = [node.name for node in ast.walk(tree) if isinstance(node, (ast.FunctionDef, ast.ClassDef))]
             own += [name.name for node in tree.body if isinstance(node, ast.ImportFrom) for name in node.names]
+            # A variable that holds a function that was handed in.
+            own += [node.targets[0].id for node in ast.walk(tree) if isinstance(node, ast.Assign)
+                    and isinstance(node.targets[0], ast.Name) and isinstance(node.value, ast.Attribute)]
             for node in ast.walk(tree):
                 if isinstance(node, ast.Call) and isinstance(node.func, ast.Name):
                     self.assertIn(node.func.id, own + BUILTINS, path)

@@ -3,7 +3,7 @@
 import inspect
 import unittest
 
-from steplinks import distances, errors, faults, layings, mending, sheets
+from steplinks import distances, doubts, edits, errors, faults, layings, mending, rings, sheets
 from steplinks.errors import LinkError
 from helping import deep
 
@@ -23,6 +23,12 @@ LISTED = {
                 "is_halfway": ["scheme", "false", "unreadable", "thing"]},
     mending: {"nearest": ["scheme", "image", "most"], "mended": ["scheme", "image", "false"]},
     faults: {"fault": ["scheme", "image"], "is_fault": ["scheme", "image", "thing"]},
+    doubts: {"near_layings": ["scheme", "image", "most"],
+             "can_stand": ["scheme", "image", "most", "record", "place"],
+             "surely_false": ["scheme", "image", "most"]},
+    rings: {"window": ["scheme", "often"], "mended_ring": ["scheme", "image", "often"]},
+    edits: {"edited": ["scheme", "laying", "edit"], "writes": ["scheme", "one", "other"],
+            "written": ["scheme", "one", "row"], "seams": ["scheme", "one", "other"]},
 }
 
 
@@ -50,7 +56,14 @@ class Calls(unittest.TestCase):
                 distances.least_distance(scheme), distances.two_layings(scheme), distances.halfway(scheme, 4, 1),
                 distances.is_halfway(scheme, 4, 1, distances.halfway(scheme, 4, 1)),
                 mending.nearest(scheme, image, 3), mending.mended(scheme, image, 1), faults.fault(scheme, image),
-                faults.is_fault(scheme, image, (0, ((0, 0, True),)))]
+                faults.is_fault(scheme, image, (0, ((0, 0, True),))), doubts.near_layings(scheme, image, 4),
+                doubts.can_stand(scheme, image, 4, 2, 5), doubts.surely_false(scheme, image, 4)]
+
+    def ring_calls(self, scheme, one, other):
+        row = edits.writes(scheme, one, other)
+        return [rings.window(scheme, 1), rings.mended_ring(scheme, edits.written(scheme, one, row[:1]), 1), row,
+                edits.edited(scheme, one, ("turn", 4, 2)), edits.written(scheme, one, row),
+                edits.seams(scheme, one, other)]
 
     def test_equal_calls_give_equal_results_and_change_no_scheme(self):
         for numbers in (0, 1):
@@ -61,6 +74,15 @@ class Calls(unittest.TestCase):
             self.assertEqual(self.calls(scheme, laying, image), first)
             self.assertEqual(self.calls(sheets.Scheme((2, 3), (1, 3), numbers), laying, image), first)
             self.assertEqual((scheme.moduli, scheme.steps, scheme.numbers), ((2, 3), (1, 3), numbers))
+
+    def test_equal_calls_on_a_ring(self):
+        scheme = sheets.Scheme((30,), (1, 2), 0)
+        one = tuple(range(30))
+        other = one[5:20] + one[25:] + one[:5] + one[20:25]
+        first = self.ring_calls(scheme, one, other)
+        self.assertEqual(self.ring_calls(scheme, one, other), first)
+        self.assertEqual(self.ring_calls(sheets.Scheme((30,), (1, 2), 0), one, other), first)
+        self.assertEqual((scheme.moduli, scheme.steps, scheme.numbers), ((30,), (1, 2), 0))
 
     def test_refused_calls_change_no_scheme(self):
         scheme = sheets.Scheme((2, 3), (1, 3), 1)
