@@ -3,7 +3,8 @@
 import inspect
 import unittest
 
-from steplinks import distances, doubts, edits, errors, faults, layings, mending, rings, sheets
+from steplinks import (choosing, distances, doubts, edits, errors, faults, layings, mending, orders, rings, sheets,
+                       store, texts)
 from steplinks.errors import LinkError
 from helping import deep
 
@@ -29,7 +30,18 @@ LISTED = {
     rings: {"window": ["scheme", "often"], "mended_ring": ["scheme", "image", "often"]},
     edits: {"edited": ["scheme", "laying", "edit"], "writes": ["scheme", "one", "other"],
             "written": ["scheme", "one", "row"], "seams": ["scheme", "one", "other"]},
+    orders: {"third": ["scheme", "one", "other", "row"], "is_third": ["scheme", "one", "other", "row", "thing"],
+             "any_row": ["scheme", "one", "other"], "safe_row": ["scheme", "one", "other"]},
+    store: {"Store": ["records", "ahead", "back"]},
+    choosing: {"best_steps": ["places", "kinds", "reach"], "cheapest": ["places", "distance", "reach"]},
+    texts: {"image_text": ["scheme", "image"], "read_image": ["text"]},
 }
+
+
+METHODS = {"rows": [], "many": [], "where": ["record"], "put": ["at", "value"], "take": ["at"],
+           "change": ["at", "value"], "move": ["first", "many", "to"], "turn": ["first", "many"], "by": ["function"],
+           "fall": ["many"], "notes": [], "spoil": ["record", "kind", "entry"], "asleep": [], "wake": [], "back": [],
+           "copy": []}
 
 
 class Interface(unittest.TestCase):
@@ -43,6 +55,12 @@ class Interface(unittest.TestCase):
 
     def test_scheme_defines_its_own_equality(self):
         self.assertIn("__eq__", vars(sheets.Scheme))
+
+
+    def test_store_defines_its_own_methods(self):
+        for name, arguments in METHODS.items():
+            self.assertIn(name, vars(store.Store))
+            self.assertEqual(list(inspect.signature(vars(store.Store)[name]).parameters), ["self"] + arguments, name)
 
 
 class Calls(unittest.TestCase):
@@ -65,6 +83,13 @@ class Calls(unittest.TestCase):
                 edits.edited(scheme, one, ("turn", 4, 2)), edits.written(scheme, one, row),
                 edits.seams(scheme, one, other)]
 
+    def order_calls(self, scheme, one, other):
+        row = edits.writes(scheme, one, other)
+        return [orders.third(scheme, one, other, row), orders.is_third(scheme, one, other, row, (2, one)),
+                orders.safe_row(scheme, one, other), orders.any_row(scheme, one, other),
+                texts.read_image(texts.image_text(scheme, layings.image_of(scheme, other))),
+                choosing.best_steps(9, 2, 3), choosing.cheapest(9, 6, 3)]
+
     def test_equal_calls_give_equal_results_and_change_no_scheme(self):
         for numbers in (0, 1):
             scheme = sheets.Scheme((2, 3), (1, 3), numbers)
@@ -84,6 +109,14 @@ class Calls(unittest.TestCase):
         self.assertEqual(self.ring_calls(sheets.Scheme((30,), (1, 2), 0), one, other), first)
         self.assertEqual((scheme.moduli, scheme.steps, scheme.numbers), ((30,), (1, 2), 0))
 
+    def test_equal_calls_on_a_small_ring(self):
+        scheme = sheets.Scheme((7,), (1,), 0)
+        one, other = (0, 1, 2, 3, 4, 5, 6), (0, 2, 1, 3, 5, 4, 6)
+        first = self.order_calls(scheme, one, other)
+        self.assertEqual(self.order_calls(scheme, one, other), first)
+        self.assertEqual(self.order_calls(sheets.Scheme((7,), (1,), 0), one, other), first)
+        self.assertEqual((scheme.moduli, scheme.steps, scheme.numbers), ((7,), (1,), 0))
+
     def test_refused_calls_change_no_scheme(self):
         scheme = sheets.Scheme((2, 3), (1, 3), 1)
         wrong = deep(lambda inner: [inner])
@@ -94,7 +127,11 @@ class Calls(unittest.TestCase):
                      lambda: layings.unlike(scheme, wrong, wrong), lambda: distances.halfway(scheme, wrong, wrong),
                      lambda: distances.is_halfway(scheme, 0, wrong, wrong), lambda: mending.nearest(scheme, wrong, 0),
                      lambda: mending.mended(scheme, wrong, wrong), lambda: faults.fault(scheme, wrong),
-                     lambda: faults.is_fault(scheme, wrong, wrong)]:
+                     lambda: faults.is_fault(scheme, wrong, wrong), lambda: doubts.near_layings(scheme, wrong, 0),
+                     lambda: doubts.can_stand(scheme, wrong, 0, 0, 0), lambda: doubts.surely_false(scheme, wrong, wrong),
+                     lambda: rings.window(scheme, wrong), lambda: rings.mended_ring(scheme, wrong, wrong),
+                     lambda: edits.edited(scheme, wrong, wrong), lambda: edits.writes(scheme, wrong, wrong),
+                     lambda: orders.third(scheme, wrong, wrong, wrong), lambda: texts.image_text(scheme, wrong)]:
             with self.assertRaises(LinkError):
                 call()
         self.assertEqual((scheme.moduli, scheme.steps, scheme.numbers), ((2, 3), (1, 3), 1))
