@@ -71,8 +71,8 @@ def mended_ring(scheme, image, often):
     if not is_wide(scheme, often):
         raise NotWide()
     wide = window_of(scheme, often)
-    # The windows that cover the ring tell how much may be wrong in all.
-    most = often * ((places(scheme) + wide - 1) // wide) - nones(image)
+    # There are as many windows as places, and each entry is counted in as many of them as one has places.
+    most = often * places(scheme) // wide - nones(image)
     # If there is such a laying, no other one gainsays as few entries.
     laying = nearest_all_along(scheme, image, most) if most >= 0 else None
     if laying is None or most_wrong(wrong_at(scheme, image, laying), wide) > often:

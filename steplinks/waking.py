@@ -50,7 +50,7 @@ def choices(said, group):
         at, lost, kept = begun.pop()
         if at == len(group):
             # What nothing speaks against is kept.
-            if all([[own for own in kept if are_rivals(own, claim)] for claim in group]):
+            if all([[own for own in kept if are_rivals(own, rival)] for rival in group]):
                 found.append((lost, kept))
         else:
             claim = group[at]

@@ -75,6 +75,18 @@ class Healing(unittest.TestCase):
         self.assertEqual(len(gainsaid(scheme, found, image)), 1)
         self.assertIsNone(nearest_all_along(scheme, image, 0))
 
+    def test_faults_that_go_far_round(self):
+        # Two rounds of twenty records each, that contradict themselves nowhere but all the way round.
+        ring = Scheme((40,), (1,), 0)
+        image = written_in(image_of(ring, tuple(range(40))), {(19, 0): 0, (39, 0): 20})
+        self.assertEqual(len(gainsaid(ring, nearest_all_along(ring, image, 400), image)), 2)
+        self.assertIsNone(nearest_all_along(ring, image, 1))
+        # By each of two links the same.
+        ring = Scheme((40,), (1, 39), 0)
+        image = written_in(image_of(ring, tuple(range(40))), {(19, 0): 0, (39, 0): 20, (0, 1): 19, (20, 1): 39})
+        self.assertEqual(len(gainsaid(ring, nearest_all_along(ring, image, 400), image)), 4)
+        self.assertIsNone(nearest_all_along(ring, image, 3))
+
     def test_equal_calls(self):
         scheme = Scheme((30,), (1, 2), 1)
         image = written_in(image_of(scheme, tuple(range(30))), {(3, 0): 8, (7, 1): None, (20, 2): 3})

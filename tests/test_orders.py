@@ -246,6 +246,41 @@ class Rows(unittest.TestCase):
                     self.assertEqual(tuple(sorted(told)), row)
                     self.assertFalse(any(judge(told[:many]) for many in range(len(row) + 1)))
 
+    def test_some_rows_are_safe_and_some_are_not(self):
+        for triple, edit in [(((5,), (1, 1), 0), ("exchange", 1, 3)), (((6,), (5, 1), 0), ("exchange", 2, 4)),
+                             (((6,), (5, 5), 0), ("exchange", 0, 3)), (((7,), (1, 6), 0), ("exchange", 5, 2))]:
+            tried = Tried(triple)
+            one = tuple(range(triple[0][0]))
+            other = edited(tried.scheme, one, edit)
+            for first, second in [(one, other), (other, one)]:
+                row = writes(tried.scheme, first, second)
+                self.assertEqual(len(row), 8)
+                self.assertIs(any_row(tried.scheme, first, second), False)
+                judge = self.barred(tried, first, second, row)
+                told = safe_row(tried.scheme, first, second)
+                self.assertEqual(tuple(sorted(told)), row)
+                self.assertFalse(any(judge(told[:many]) for many in range(len(row) + 1)))
+                self.assertIsNone(third(tried.scheme, first, second, told))
+
+    def test_each_pair_of_four_places(self):
+        for triple in [((4,), (1, 2), 0), ((4,), (3, 2), 0), ((4,), (1, 3), 0), ((4,), (1, 1), 0), ((4,), (3,), 0)]:
+            tried = Tried(triple)
+            for one, _ in tried.pairs:
+                for other, _ in tried.pairs:
+                    row = writes(tried.scheme, one, other)
+                    judge = self.barred(tried, one, other, row)
+                    come_by, barred = {()}, False
+                    for _ in row:
+                        lots = {tuple(sorted(lot + (write,))) for lot in come_by for write in row if write not in lot}
+                        come_by = {lot for lot in lots if not judge(lot)}
+                        barred = barred or lots != come_by
+                    told = safe_row(tried.scheme, one, other)
+                    self.assertEqual(told is None, not come_by, (triple, one, other))
+                    if told is not None:
+                        self.assertEqual(tuple(sorted(told)), row)
+                        self.assertFalse(any(judge(told[:many]) for many in range(len(row) + 1)))
+                    self.assertIs(any_row(tried.scheme, one, other), not barred)
+
     def test_any_row_by_all_layings(self):
         # What a third can be for some row depends only on how many writes it sides with.
         rng = random.Random(1319)

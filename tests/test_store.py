@@ -505,6 +505,36 @@ class Wakes(unittest.TestCase):
         store.spoil(50, 0, None)
         self.assertEqual(store.wake(), 2)
         self.assertEqual(store.rows(), [])
+        order = list(range(51)) + list(range(121, 200)) + list(range(51, 121))
+        self.assertEqual(store.notes(), Model(200, 1, 0).image(order))
+
+    def test_rounds_are_opened_where_least_is_lost(self):
+        # With two links each, rounds 0 to 3 and 4 to 9; one of the two links from 6 to 7 can't be read.
+        store = Store(10, 2, 0)
+        for record, name in [(3, 0), (9, 4)]:
+            store.spoil(record, 0, name)
+            store.spoil(record, 1, name)
+        store.spoil(6, 0, None)
+        self.assertEqual(store.wake(), 4)
+        self.assertEqual(store.notes(), Model(10, 2, 0).image([0, 1, 2, 3, 7, 8, 9, 4, 5, 6]))
+        # And the round of the head, where it can be opened only behind record 1.
+        store = Store(10, 2, 0)
+        for record, name in [(3, 0), (9, 4)]:
+            store.spoil(record, 0, name)
+            store.spoil(record, 1, name)
+        store.spoil(1, 1, None)
+        self.assertEqual(store.wake(), 4)
+        self.assertEqual(store.notes(), Model(10, 2, 0).image([0, 1, 4, 5, 6, 7, 8, 9, 2, 3]))
+
+    def test_rounds_are_opened_so_that_the_least_is_first(self):
+        # Rounds 0 8 1 3, 2 6 5 and 4 9 7; the first goes on up to where a lesser record can stand.
+        store = Store(10, 1, 0)
+        for record, name in [(0, 8), (8, 1), (1, 3), (3, 0), (2, 6), (6, 5), (5, 2), (4, 9), (9, 7), (7, 4)]:
+            store.spoil(record, 0, name)
+        self.assertEqual(store.wake(), 3)
+        self.assertEqual(store.notes(), Model(10, 1, 0).image([0, 2, 6, 5, 4, 9, 7, 8, 1, 3]))
+        # Records that came to be rows this way have the values that they had at first.
+        self.assertEqual(store.rows(), [(record, 0) for record in (2, 6, 5, 4, 9, 7, 8)])
 
     def test_many_ties(self):
         # Eight records name what others name, too: the least of very many orders.
